@@ -1,0 +1,76 @@
+"""Least lines of patterns, and the looks that the lines of a pattern have for marks."""
+
+from gluedlines.scans import numbered, signs_for, truths
+
+
+def least_line(pattern):
+    """The least line that fits the pattern, or None."""
+    return _least([pattern])
+
+
+def shared_line(one, other):
+    """The least line that fits both patterns, or None."""
+    return _least([one, other])
+
+
+def looks(pattern, marks):
+    """Each look of a line that fits the pattern, with the least such line: sorted tuples (look, line)."""
+    least = {}
+    for told, line in _fitting([pattern], marks, False):
+        look = tuple([k for k, fits in enumerate(told) if fits])
+        if look not in least:
+            least[look] = line
+    return [(look, least[look]) for look in sorted(least)]
+
+
+def _least(goals):
+    """The least line that fits all these patterns, or None."""
+    found = _fitting(goals, [], True)
+    return found[0][1] if len(found) > 0 else None
+
+
+def _fitting(goals, marks, only_first):
+    """The least line to each state in which all goals hold, or only the least of these.
+
+    Returns tuples (told, line) in the order of the lines; told is a list that
+    tells which marks the line fits.
+    """
+    forms = [form for pattern in [*goals, *marks] for form in pattern.forms()]
+    signs = signs_for(forms)
+    tables = [numbered(form, signs) for form in forms]
+    seen = {}
+    found = []
+    # The start is not marked as seen: the empty string is no line, but a line may lead to the start again.
+    queue = [(tuple([0] * len(forms)), "")]
+    at = 0
+    while at < len(queue) and not (only_first and len(found) > 0):
+        numbers, line = queue[at]
+        for k, sign in enumerate(signs):
+            after = tuple([rows[n][k] for (_, rows), n in zip(tables, numbers)])
+            if after not in seen:
+                seen[after] = True
+                state = [states[n] for (states, _), n in zip(tables, after)]
+                if _may_hold(goals, state):
+                    queue.append((after, line + sign))
+                told = _held([*goals, *marks], truths(forms, state))
+                if all(told[:len(goals)]):
+                    found.append((told[len(goals):], line + sign))
+        at += 1
+    return found
+
+
+def _may_hold(goals, state):
+    """Whether all goals may still hold behind this state, which begins with the positions of their forms."""
+    # Patterns know no "not": one that fails even if all its forms with a position were true fails for ever.
+    return all(_held(goals, [len(positions) > 0 for positions in state]))
+
+
+def _held(patterns, told):
+    """For each pattern whether it holds, if told tells it of the forms of all of them."""
+    held = []
+    at = 0
+    for pattern in patterns:
+        many = len(pattern.forms())
+        held.append(pattern.holds(told[at:at + many]))
+        at = at + many
+    return held

@@ -1,0 +1,78 @@
+"""What several tests use: patterns and grammars at random, and other ways to find what fits them."""
+
+import itertools
+import re
+
+from gluedlines.errors import NoGrammar
+from gluedlines.grammars import Grammar
+from gluedlines.patterns import Both, Either, Form
+
+TITLE, ITEM, DOT = Form("T", Form.DIGITS), Form("-", Form.ANY), Form(".")
+SHAPES = {Form.DIGITS: "[0-9]+", Form.WORD: "[A-Za-z]+", Form.ANY: ".*"}
+
+
+def fits(pattern, line):
+    """Whether the line fits the pattern, by Python's regular expressions."""
+    if isinstance(pattern, Form):
+        shape = "".join(SHAPES.get(part) or re.escape(part) for part in pattern.parts())
+        return line != "" and re.fullmatch(shape, line) is not None
+    sides = [fits(side, line) for side in (pattern._one, pattern._other)]
+    return all(sides) if isinstance(pattern, Both) else any(sides)
+
+
+def lines_over(signs, most):
+    """All lines of at most so many of these signs, the least ones first."""
+    for many in range(1, most + 1):
+        for line in itertools.product(sorted(signs), repeat=many):
+            yield "".join(line)
+
+
+def random_form(chance, signs, most=2):
+    parts = []
+    for _ in range(chance.randint(1, 4)):
+        kinds = [Form.DIGITS, Form.WORD]
+        if Form.ANY not in parts:
+            kinds += [Form.ANY, Form.ANY]
+        if not parts or parts[-1] in SHAPES:
+            kinds += ["fixed"] * 4
+        kind = chance.choice(kinds)
+        if kind == "fixed":
+            kind = "".join(chance.choice(signs) for _ in range(chance.randint(1, most)))
+        parts.append(kind)
+    return Form(*parts)
+
+
+def random_pattern(chance, signs, most=2):
+    pattern = random_form(chance, signs, most)
+    for _ in range(chance.randint(0, 2)):
+        other = random_form(chance, signs, most)
+        one, other = chance.choice([(pattern, other), (other, pattern)])
+        pattern = chance.choice([Both, Either])(one, other)
+    return pattern
+
+
+def titled():
+    """A grammar of a title and any number of items."""
+    return Grammar([(TITLE, [1]), (ITEM, [1])], [0], [0, 1])
+
+
+def walks(grammar, many):
+    """All lists of so many nodes that are ways, by trying all lists."""
+    for way in itertools.product(range(len(grammar)), repeat=many):
+        on = all(after in grammar.nexts(k) for k, after in zip(way, way[1:]))
+        if on and way[0] in grammar.firsts() and way[-1] in grammar.lasts():
+            yield way
+
+
+def random_grammar(chance, most=4):
+    """A grammar at random: numbers are tried until they make one."""
+    while True:
+        many = chance.randint(1, most)
+        some = [k for k in range(many) if chance.random() < 0.5]
+        nodes = [(chance.choice([TITLE, ITEM, DOT]), [k for k in range(many) if chance.random() < 0.4])
+                 for _ in range(many)]
+        chance.shuffle(some)
+        try:
+            return Grammar(nodes, some, [k for k in range(many) if chance.random() < 0.5])
+        except NoGrammar:
+            pass
