@@ -6,6 +6,7 @@ import re
 from gluedlines.errors import NoGrammar
 from gluedlines.grammars import Grammar
 from gluedlines.patterns import Both, Either, Form
+from gluedlines.rules import Rule
 
 TITLE, ITEM, DOT = Form("T", Form.DIGITS), Form("-", Form.ANY), Form(".")
 SHAPES = {Form.DIGITS: "[0-9]+", Form.WORD: "[A-Za-z]+", Form.ANY: ".*"}
@@ -76,3 +77,10 @@ def random_grammar(chance, most=4):
             return Grammar(nodes, some, [k for k in range(many) if chance.random() < 0.5])
         except NoGrammar:
             pass
+
+
+def random_rule(chance, marks=(TITLE, ITEM, DOT, Form("x"), Form("T", Form.ANY))):
+    """A rule of a few of these marks, in which each value of a setting is likely."""
+    begins, ends = ([mark for mark in marks if chance.random() < 0.3] for _ in range(2))
+    return Rule(begins[:3], ends[:3], most=chance.choice([None, None, 1, 2, 3]), alone=chance.random() < 0.6,
+                tags=chance.choice([None, 0, 1]), quiet=chance.random() < 0.4)

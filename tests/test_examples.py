@@ -3,10 +3,13 @@
 import unittest
 
 from gluedlines.errors import NoForm, NoText
+from gluedlines.gluers import Gluer, glue
 from gluedlines.grammars import Grammar
 from gluedlines.looks import least_line, looks, shared_line
+from gluedlines.outputs import cuts_of
 from gluedlines.patterns import Form
 from gluedlines.patterntexts import read_pattern
+from gluedlines.rules import Rule
 from gluedlines.ways import ways
 
 
@@ -36,7 +39,20 @@ class ExamplesTest(unittest.TestCase):
 
     def test_grammar(self):
         grammar = Grammar([(Form("T", Form.DIGITS), [1]), (Form("-", Form.ANY), [1])], [0], [0, 1])
-        self.assertEqual([grammar.longest(), list(ways(grammar, 3))], [None, [(0,), (0, 1), (0, 1, 1)]])
+        told = [grammar.longest(), list(ways(grammar, 3)), list(cuts_of(grammar, ["T1", "-", "T2"]))]
+        self.assertEqual(told, [None, [(0,), (0, 1), (0, 1, 1)], [(2, 1)]])
+
+    def test_glue(self):
+        told = glue(Rule.by_first(Form("T", Form.DIGITS)), ["T1", "-", "T2", "-", "-"])
+        self.assertEqual(told, [["T1", "-"], ["T2", "-", "-"]])
+
+    def test_gluer(self):
+        gluer = Gluer(Rule([], [Form(".")], tags=0))
+        first = gluer("x", 0)
+        second = gluer("y", 1)
+        third = gluer(".", 0)
+        told = [first, second, third, gluer.finish(), gluer.many]
+        self.assertEqual(told, [[], [], [(0, ["x", "."])], [(1, ["y"])], 2])
 
 
 if __name__ == "__main__":

@@ -24,10 +24,16 @@ INTERFACE = {
     "looks": {"looks": None, "least_line": None, "shared_line": None},
     "grammars": {"Grammar": ["nexts", "firsts", "lasts", "longest", "__len__", "__getitem__", "__eq__", "__or__"]},
     "ways": {"ways": None, "is_way": None, "lead": None, "rest": None, "example": None},
+    "outputs": {"is_record": None, "is_output": None, "cuts_of": None, "follows": None},
+    "crews": {"Crew": ["__len__", "__getitem__", "__setitem__", "__add__", "__radd__", "at_once"],
+              "woven": None, "is_crew_output": None},
+    "rules": {"Rule": ["most", "alone", "tags", "quiet", "change", "begins", "ends", "begins_on", "ends_on",
+                       "by_first", "by_last", "every_line", "is_part_of", "__eq__"], "assign": None},
+    "gluers": {"Gluer": ["__call__", "pause", "finish", "waiting", "many"], "glue": None, "glue_places": None},
 }
 
 BUILTINS = """len range enumerate zip min max sum abs sorted reversed int str bool list tuple dict set isinstance ord repr
-any all divmod Exception ValueError TypeError KeyError IndexError LookupError NotImplemented""".split()
+any all divmod property staticmethod Exception ValueError TypeError KeyError IndexError LookupError NotImplemented""".split()
 METHODS = """append clear copy count endswith extend find get index insert isalnum isalpha isdigit islower isspace isupper
 items join keys ljust lower lstrip partition pop remove replace reverse rfind rjust rpartition rsplit rstrip setdefault
 split splitlines startswith strip update upper values zfill add discard""".split()
@@ -116,7 +122,10 @@ class WordsTest(unittest.TestCase):
                 if not (isinstance(node, ast.ClassDef) and node in tree.body):
                     self.assertNotIsInstance(node, NODES_OUT, (name, getattr(node, "lineno", 0)))
                 if isinstance(node, (ast.FunctionDef, ast.ClassDef)):
-                    self.assertEqual(node.decorator_list, [], name)
+                    self.assertLessEqual(len(node.decorator_list), 1, name)
+                    for mark in node.decorator_list:
+                        self.assertIsInstance(node, ast.FunctionDef, name)
+                        self.assertIn(ast.unparse(mark), ["property", "staticmethod", node.name + ".setter"], name)
                 if isinstance(node, ast.Constant):
                     self.assertNotIsInstance(node.value, (float, complex), name)
                     self.assertFalse(isinstance(node.value, str) and "%" in node.value, name)
