@@ -38,6 +38,9 @@ def _fitting(goals, marks, only_first):
     forms = [form for pattern in [*goals, *marks] for form in pattern.forms()]
     signs = signs_for(forms)
     tables = [numbered(form, signs) for form in forms]
+    fitting = [[truths([form], (positions,))[0] for positions in states]
+               for form, (states, _) in zip(forms, tables)]
+    living = [[len(positions) > 0 for positions in states] for states, _ in tables]
     seen = {}
     found = []
     # The start is not marked as seen: the empty string is no line, but a line may lead to the start again.
@@ -45,24 +48,22 @@ def _fitting(goals, marks, only_first):
     at = 0
     while at < len(queue) and not (only_first and len(found) > 0):
         numbers, line = queue[at]
-        for k, sign in enumerate(signs):
-            after = tuple([rows[n][k] for (_, rows), n in zip(tables, numbers)])
+        chosen = [rows[n] for (_, rows), n in zip(tables, numbers)]
+        for after, sign in zip(zip(*chosen), signs):
             if after not in seen:
                 seen[after] = True
-                state = [states[n] for (states, _), n in zip(tables, after)]
-                if _may_hold(goals, state):
+                # Patterns know no "not": one that fails even if all its living forms were true fails for ever.
+                if all(_held(goals, _picked(living, after))):
                     queue.append((after, line + sign))
-                told = _held([*goals, *marks], truths(forms, state))
-                if all(told[:len(goals)]):
-                    found.append((told[len(goals):], line + sign))
+                    told = _held([*goals, *marks], _picked(fitting, after))
+                    if all(told[:len(goals)]):
+                        found.append((told[len(goals):], line + sign))
         at += 1
     return found
 
 
-def _may_hold(goals, state):
-    """Whether all goals may still hold behind this state, which begins with the positions of their forms."""
-    # Patterns know no "not": one that fails even if all its forms with a position were true fails for ever.
-    return all(_held(goals, [len(positions) > 0 for positions in state]))
+def _picked(tables, numbers):
+    return [table[n] for table, n in zip(tables, numbers)]
 
 
 def _held(patterns, told):

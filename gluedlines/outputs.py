@@ -5,7 +5,7 @@ from gluedlines.ways import is_way
 
 def is_record(grammar, lines):
     """Whether the list of lines is a record."""
-    return len(lines) > 0 and len(lines) in _lengths(grammar, lines)
+    return len(lines) in _lengths(grammar, lines)
 
 
 def is_output(grammar, lines):
@@ -41,19 +41,33 @@ def follows(grammar, lines, ways):
 
 
 def followed(grammar, nodes, ended, line):
-    """The nodes that the line may stand for behind a line that stands for one of these.
+    """The nodes that the line may stand for behind a line that stands for one of these."""
+    return [k for k in afters(grammar, nodes, ended) if line in grammar[k]]
 
-    If ended is true, a record may also end there, or begin for the first time.
-    """
+
+def afters(grammar, nodes, ended):
+    """The nodes that may stand behind one of these; if ended is true, a record may also begin there."""
     found = [after for k in nodes for after in grammar.nexts(k)]
     if ended:
         found.extend(grammar.firsts())
-    return [k for k in sorted(set(found)) if line in grammar[k]]
+    return sorted(set(found))
 
 
 def may_end(grammar, nodes):
     """Whether one of these nodes is a last one."""
     return any([k in grammar.lasts() for k in nodes])
+
+
+def written(steps):
+    """The lines and the ways of steps (node, line, whether a record begins there)."""
+    lines = []
+    ways = []
+    for k, line, starts in steps:
+        if starts:
+            ways.append([])
+        ways[-1].append(k)
+        lines.append(line)
+    return lines, ways
 
 
 def _lengths(grammar, lines):

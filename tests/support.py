@@ -65,12 +65,12 @@ def walks(grammar, many):
             yield way
 
 
-def random_grammar(chance, most=4):
+def random_grammar(chance, most=4, patterns=(TITLE, ITEM, DOT)):
     """A grammar at random: numbers are tried until they make one."""
     while True:
         many = chance.randint(1, most)
         some = [k for k in range(many) if chance.random() < 0.5]
-        nodes = [(chance.choice([TITLE, ITEM, DOT]), [k for k in range(many) if chance.random() < 0.4])
+        nodes = [(chance.choice(patterns), [k for k in range(many) if chance.random() < 0.4])
                  for _ in range(many)]
         chance.shuffle(some)
         try:
@@ -84,3 +84,63 @@ def random_rule(chance, marks=(TITLE, ITEM, DOT, Form("x"), Form("T", Form.ANY))
     begins, ends = ([mark for mark in marks if chance.random() < 0.3] for _ in range(2))
     return Rule(begins[:3], ends[:3], most=chance.choice([None, None, 1, 2, 3]), alone=chance.random() < 0.6,
                 tags=chance.choice([None, 0, 1]), quiet=chance.random() < 0.4)
+
+
+def outputs_of(grammar, lines, most):
+    """All outputs of at most so many lines, all of them from this list, with all their ways."""
+    level = [([], [])]
+    while level:
+        ahead = []
+        for found, ways in level:
+            if not ways or ways[-1][-1] in grammar.lasts():
+                yield found, ways
+            if len(found) < most:
+                for k in range(len(grammar)):
+                    for line in lines:
+                        if line in grammar[k]:
+                            if ways and k in grammar.nexts(ways[-1][-1]):
+                                ahead.append((found + [line], ways[:-1] + [ways[-1] + [k]]))
+                            if (not ways or ways[-1][-1] in grammar.lasts()) and k in grammar.firsts():
+                                ahead.append((found + [line], ways + [[k]]))
+        level = ahead
+
+
+def random_output(chance, grammar, lines, most):
+    """An output along ways at random, of about so many lines from this list."""
+    found, ways = [], []
+    while True:
+        if ways and ways[-1][-1] in grammar.lasts() and len(found) >= most:
+            return found, ways
+        inside = ways and grammar.nexts(ways[-1][-1])
+        if not inside or (ways[-1][-1] in grammar.lasts() and chance.random() < 0.5):
+            ways.append([chance.choice(grammar.firsts())])
+        else:
+            ways[-1].append(chance.choice(inside))
+        found.append(chance.choice([line for line in lines if line in grammar[ways[-1][-1]]]))
+
+
+def places_of(ways):
+    """The places of the records along these ways."""
+    ends = list(itertools.accumulate(len(way) for way in ways))
+    return [list(range(end - len(way), end)) for end, way in zip(ends, ways)]
+
+
+def got(rule, lines):
+    """The places of the records that a rule gets from lines of one tag, in which None is a pause."""
+    found, now, at = [], None, 0
+    for line in lines:
+        if line is None:
+            if now and rule.quiet:
+                found, now = found + [now], None
+            continue
+        begins = any(fits(mark, line) for mark in rule.begins())
+        if begins and now:
+            found, now = found + [now], None
+        if now:
+            now.append(at)
+        elif begins or rule.alone:
+            now = [at]
+        if now and (len(now) == rule.most or any(fits(mark, line) for mark in rule.ends())):
+            found, now = found + [now], None
+        at += 1
+    return found + [now] if now else found

@@ -3,13 +3,17 @@
 import unittest
 
 from gluedlines.errors import NoForm, NoText
+from gluedlines.faces import faces
 from gluedlines.gluers import Gluer, glue
 from gluedlines.grammars import Grammar
+from gluedlines.leastrules import least_rules, why_none
 from gluedlines.looks import least_line, looks, shared_line
 from gluedlines.outputs import cuts_of
 from gluedlines.patterns import Form
 from gluedlines.patterntexts import read_pattern
+from gluedlines.readings import ahead_needed, two_readings
 from gluedlines.rules import Rule
+from gluedlines.verdicts import is_right, pair_table, wrong_output
 from gluedlines.ways import ways
 
 
@@ -53,6 +57,33 @@ class ExamplesTest(unittest.TestCase):
         third = gluer(".", 0)
         told = [first, second, third, gluer.finish(), gluer.many]
         self.assertEqual(told, [[], [], [(0, ["x", "."])], [(1, ["y"])], 2])
+
+    def test_faces(self):
+        told = faces(Form("T", Form.ANY), Rule.by_first(Form("T", Form.DIGITS)))
+        self.assertEqual(told, [((False, False), "T"), ((True, False), "T0")])
+
+    def test_verdicts(self):
+        grammar = Grammar([(Form("T", Form.DIGITS), [1]), (Form("-", Form.ANY), [1])], [0], [0, 1])
+        told = [is_right(grammar, Rule.by_first(Form("T", Form.DIGITS))),
+                len(wrong_output(grammar, Rule.every_line())[0])]
+        self.assertEqual(told, [True, 2])
+
+    def test_pair_table(self):
+        grammar = Grammar([(Form("T", Form.DIGITS), [1]), (Form("-", Form.ANY), [1])], [0], [0, 1])
+        self.assertEqual(pair_table(grammar, Rule.by_first(Form("T", Form.DIGITS))), [
+            ("between", 0, 0, (True, False), (True, False), True),
+            ("between", 1, 0, (False, False), (True, False), True),
+            ("inside", 0, 1, (True, False), (False, False), False),
+            ("inside", 1, 1, (False, False), (False, False), False)])
+
+    def test_least_rules(self):
+        grammar = Grammar([(Form("T", Form.DIGITS), [1]), (Form("-", Form.ANY), [1])], [0], [0, 1])
+        marks = [Form("T", Form.DIGITS), Form("-", Form.ANY)]
+        self.assertEqual([least_rules(grammar, marks), why_none(grammar, marks)], [[((0,), ())], None])
+
+    def test_readings(self):
+        grammar = Grammar([(Form("T", Form.DIGITS), [1]), (Form("-", Form.ANY), [1])], [0], [0, 1])
+        self.assertEqual([ahead_needed(grammar), two_readings(grammar)], [1, None])
 
 
 if __name__ == "__main__":

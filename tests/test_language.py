@@ -30,6 +30,11 @@ INTERFACE = {
     "rules": {"Rule": ["most", "alone", "tags", "quiet", "change", "begins", "ends", "begins_on", "ends_on",
                        "by_first", "by_last", "every_line", "is_part_of", "__eq__"], "assign": None},
     "gluers": {"Gluer": ["__call__", "pause", "finish", "waiting", "many"], "glue": None, "glue_places": None},
+    "faces": {"faces": None},
+    "verdicts": {"wrong_output": None, "is_right": None, "pair_table": None},
+    "leastrules": {"least_rules": None, "why_none": None},
+    "readings": {"ahead_needed": None, "two_outputs": None, "two_readings": None},
+    "readers": {"Reader": ["__call__", "finish"]},
 }
 
 BUILTINS = """len range enumerate zip min max sum abs sorted reversed int str bool list tuple dict set isinstance ord repr
