@@ -1,14 +1,17 @@
 """Gluers: they take lines and give out records as their rule says."""
 
-from gluedlines.rules import Rule
+from gluedlines.rules import with_marks
+
+THROWN = "thrown"
+BEGUN = "begun"
+JOINED = "joined"
 
 
 class Keeper:
     """The open records of a gluer; what is kept of a line may also be its place."""
 
     def __init__(self, rule):
-        self._rule = Rule(rule.begins(), rule.ends(), most=rule.most, alone=rule.alone, tags=rule.tags,
-                          quiet=rule.quiet)
+        self._rule = with_marks(rule, rule.begins(), rule.ends())
         # By tag, in the order in which the last lines of the records came.
         self._kept = {}
 
@@ -39,6 +42,11 @@ class Keeper:
     def waiting(self):
         return [(tag, list(things)) for tag, things in self._kept.items()]
 
+    def copied(self):
+        other = Keeper(self._rule)
+        other._kept = {tag: list(things) for tag, things in self._kept.items()}
+        return other
+
     def _too_many(self):
         """The tags of the records that must be given out before one more is open."""
         if self._rule.tags is None or self._rule.tags == 0 or len(self._kept) < self._rule.tags:
@@ -58,6 +66,7 @@ class Gluer:
     """Puts records together by a copy of a rule."""
 
     def __init__(self, rule):
+        self._rule = with_marks(rule, rule.begins(), rule.ends())
         self._keeper = Keeper(rule)
         self._many = 0
 
@@ -77,9 +86,36 @@ class Gluer:
     def waiting(self):
         return self._keeper.waiting()
 
+    def copied(self):
+        """A gluer of the same rule with the same open records; what is done to one has no effect on the other."""
+        other = Gluer(self._rule)
+        other._keeper = self._keeper.copied()
+        other._many = self._many
+        return other
+
     def _counted(self, given):
         self._many = self._many + len(given)
         return given
+
+
+def taken(rule, count, face):
+    """What a gluer does with a line of this face if its open record has so many lines, 0 if none is open.
+
+    Returns how the line is taken, and the number of lines of the record that is
+    then open. If the rule has no greatest number, 1 is told for all numbers above 0.
+    """
+    begins, ends = face
+    if count > 0 and not begins:
+        how = JOINED
+        many = count + 1
+    elif begins or rule.alone:
+        how = BEGUN
+        many = 1
+    else:
+        return THROWN, 0
+    if ends or many == rule.most:
+        return how, 0
+    return how, 1 if rule.most is None else many
 
 
 def glue(rule, lines):

@@ -53,9 +53,28 @@ def afters(grammar, nodes, ended):
     return sorted(set(found))
 
 
+def followers(grammar, k):
+    """The nodes that may stand behind this one, each with whether a record begins there; None is the start."""
+    starting = [(after, True) for after in grammar.firsts()]
+    if k is None:
+        return starting
+    inside = [(after, False) for after in grammar.nexts(k)]
+    return inside + starting if k in grammar.lasts() else inside
+
+
 def may_end(grammar, nodes):
     """Whether one of these nodes is a last one."""
     return any([k in grammar.lasts() for k in nodes])
+
+
+def places_of(ways):
+    """The list of places of each record along these ways."""
+    found = []
+    at = 0
+    for way in ways:
+        found.append(list(range(at, at + len(way))))
+        at = at + len(way)
+    return found
 
 
 def written(steps):

@@ -1,7 +1,7 @@
 """Readings: how far one must look ahead to tell where the records of an output end."""
 
 from gluedlines.looks import shared_line
-from gluedlines.outputs import may_end, written
+from gluedlines.outputs import followers, may_end, written
 from gluedlines.ways import example, rest
 
 # Two outputs of the same lines are followed side by side. A step is what both do with one line: the two nodes it
@@ -20,18 +20,11 @@ class Pairs:
     def steps_behind(self, pair):
         """All steps that may follow behind this pair."""
         if pair not in self._steps:
-            one, other = [self._followers(k) for k in pair]
+            one, other = [followers(self._grammar, k) for k in pair]
             self._steps[pair] = [(k, mate, self._shared(k, mate), starts, mate_starts)
                                  for k, starts in one for mate, mate_starts in other
                                  if self._shared(k, mate) is not None]
         return self._steps[pair]
-
-    def _followers(self, k):
-        starting = [(after, True) for after in self._grammar.firsts()]
-        if k is None:
-            return starting
-        inside = [(after, False) for after in self._grammar.nexts(k)]
-        return inside + starting if k in self._grammar.lasts() else inside
 
     def _shared(self, k, mate):
         both = (min(k, mate), max(k, mate))

@@ -122,6 +122,11 @@ def assign(rule, field, value):
         raise NoRule("name")
 
 
+def with_marks(rule, begins, ends):
+    """A new rule with these marks and the settings of this one."""
+    return Rule(begins, ends, most=rule.most, alone=rule.alone, tags=rule.tags, quiet=rule.quiet)
+
+
 def _check(field, value):
     """Raise NoRule if the setting of this name cannot have the value."""
     if field == "most":

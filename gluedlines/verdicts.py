@@ -1,9 +1,9 @@
 """Verdicts: whether a rule gets the records of every output of a grammar whole."""
 
 from gluedlines.errors import NotRight
-from gluedlines.faces import faces
-from gluedlines.outputs import written
-from gluedlines.ways import example, rest
+from gluedlines.faces import faces_of_nodes
+from gluedlines.outputs import followers, written
+from gluedlines.ways import counted, example, rest
 
 PAUSES = ("none", "behind", "any")
 
@@ -15,8 +15,13 @@ def wrong_output(grammar, rule, pauses="none"):
     """An output with the fewest lines for which the rule is not right, as (lines, ways), or None."""
     if pauses not in PAUSES:
         raise NotRight("pauses")
+    return least_wrong(grammar, rule, faces_of_nodes(grammar, rule), pauses)
+
+
+def least_wrong(grammar, rule, tables, pauses):
+    """What wrong_output returns, if these tables are the faces of the nodes."""
     best = None
-    for trail, nodes, paused in _failures(grammar, rule, pauses):
+    for trail, nodes, paused in _failures(grammar, rule, tables, pauses):
         if best is None or len(trail) + len(nodes) < len(best[0]) + len(best[1]):
             best = (trail, nodes, paused)
     if best is None:
@@ -35,22 +40,36 @@ def is_right(grammar, rule, pauses="none"):
     return wrong_output(grammar, rule, pauses) is None
 
 
+def right_faces(grammar, rule):
+    """The faces of the nodes, or NotRight if the rule is not right for the grammar."""
+    tables = faces_of_nodes(grammar, rule)
+    if least_wrong(grammar, rule, tables, "none") is not None:
+        raise NotRight("rule")
+    return tables
+
+
+def late_ways(grammar, rule, tables):
+    """Ways and last lines of records that a gluer of a right rule has not given out behind these lines."""
+    return [(way, line) for (k, count), way in counted(grammar, rule.most).items()
+            if k in grammar.lasts() and count != rule.most
+            for (_, ends), line in tables[k] if not ends]
+
+
 def pair_table(grammar, rule):
     """For each two nodes that may be neighbours, by all their faces, whether the rule parts their lines."""
-    tables = [[face for face, _ in faces(grammar[k], rule)] for k in range(len(grammar))]
+    tables = [[face for face, _ in told] for told in faces_of_nodes(grammar, rule)]
     pairs = [("inside", k, after) for k in range(len(grammar)) for after in grammar.nexts(k)]
     pairs.extend([("between", k, after) for k in grammar.lasts() for after in grammar.firsts()])
     return sorted([(word, k, after, face, other, face[1] or other[0])
                    for word, k, after in pairs for face in tables[k] for other in tables[after]])
 
 
-def _failures(grammar, rule, pauses):
+def _failures(grammar, rule, tables, pauses):
     """All ways in which something is wrong for the first time, with the fewest lines before it.
 
     Returns tuples: the steps up to the line at which it is sure, the nodes that
     end its record, and whether it needs a pause behind that line.
     """
-    tables = [faces(grammar[k], rule) for k in range(len(grammar))]
     found = []
     seen = {}
     queue = [(None, [])]
@@ -75,13 +94,11 @@ def _failures(grammar, rule, pauses):
 
 def _followers(grammar, state):
     """The nodes of the lines that may come in this state, each with whether a record begins there."""
-    starting = [(k, True) for k in grammar.firsts()]
     if state is None:
-        return starting
+        return followers(grammar, None)
     k, _, is_open = state
     # If the record is no longer open, only its end can be right; that it goes on is a failure found before.
-    inside = [(after, False) for after in grammar.nexts(k)] if is_open else []
-    return inside + starting if k in grammar.lasts() else inside
+    return [(after, starts) for after, starts in followers(grammar, k) if starts or is_open]
 
 
 def _is_wrong(rule, pauses, state, starts, face):

@@ -41,6 +41,31 @@ def example(grammar, way):
     return [least[k] for k in way]
 
 
+def example_with(grammar, way, at, line):
+    """A record along the way that has this line at this index."""
+    return [*example(grammar, way[:at]), line, *example(grammar, way[at + 1:])]
+
+
+def counted(grammar, most):
+    """All tuples (node, lines of the record so far), each with a shortest list of nodes that leads to it.
+
+    Records are followed up to so many lines. If this is None, the number of lines is always told as 1.
+    """
+    found = {(k, 1): [k] for k in grammar.firsts()}
+    queue = list(found)
+    at = 0
+    while at < len(queue):
+        k, count = queue[at]
+        at += 1
+        if count != most:
+            for after in grammar.nexts(k):
+                place = (after, 1 if most is None else count + 1)
+                if place not in found:
+                    found[place] = [*found[(k, count)], after]
+                    queue.append(place)
+    return found
+
+
 def _shortest(grammar, starts, goals):
     """A shortest list of nodes from a start to a goal, each a next of the one before."""
     # There always is one: every node of a grammar stands on a way.

@@ -4,9 +4,12 @@ import itertools
 import re
 
 from gluedlines.errors import NoGrammar
+from gluedlines.gluers import glue_places
 from gluedlines.grammars import Grammar
 from gluedlines.patterns import Both, Either, Form
 from gluedlines.rules import Rule
+from gluedlines.scans import begin, signs_for, step, truths
+from gluedlines.verdicts import is_right
 
 TITLE, ITEM, DOT = Form("T", Form.DIGITS), Form("-", Form.ANY), Form(".")
 SHAPES = {Form.DIGITS: "[0-9]+", Form.WORD: "[A-Za-z]+", Form.ANY: ".*"}
@@ -144,3 +147,100 @@ def got(rule, lines):
             found, now = found + [now], None
         at += 1
     return found + [now] if now else found
+
+
+def pools(chance, rule, patterns, tries=80):
+    """Grammars at random for which the rule is right: those with records of one line alone, and the others."""
+    lone, long = [], []
+    for _ in range(tries):
+        grammar = random_grammar(chance, 3, patterns)
+        if is_right(grammar, rule):
+            (lone if grammar.longest() == 1 else long).append(grammar)
+    return lone, long
+
+
+def right_for_crew(rule, rows, parts):
+    """Whether the rule gets exactly the records of these ways of each writer from the rows."""
+    given = glue_places(rule, rows)
+    truth = []
+    for writer, ways in enumerate(parts):
+        own = [at for at, (other, _) in enumerate(rows) if other == writer]
+        truth.append([[own[at] for at in places] for places in places_of(ways)])
+    if rule.tags is None:
+        return given == [(None, places) for places in sorted(sum(truth, []), key=lambda places: places[-1])]
+    return (all([places for tag, places in given if tag == writer] == own for writer, own in enumerate(truth))
+            and len(given) == sum(len(own) for own in truth))
+
+
+def mixed(parts):
+    """All lists that have the things of each of these lists in their order, and no others."""
+    if not any(parts):
+        yield []
+    for k, part in enumerate(parts):
+        if part:
+            for behind in mixed(parts[:k] + [part[1:]] + parts[k + 1:]):
+                yield part[:1] + behind
+
+
+def crew_outputs(crew, lines, most):
+    """All outputs of a crew of at most so many lines, all of them from this list, with the ways of each writer."""
+    alone = [list(outputs_of(crew[writer], lines, most)) for writer in range(len(crew))]
+    for told in itertools.product(*alone):
+        if sum(len(own) for own, _ in told) <= most:
+            pieces = []
+            for writer, (own, ways) in enumerate(told):
+                at_once = places_of(ways) if crew.at_once else [[at] for at in range(len(own))]
+                pieces.append([[(writer, own[at]) for at in places] for places in at_once])
+            for order in mixed(pieces):
+                yield sum(order, []), [ways for _, ways in told]
+
+
+def paper_forms(pattern, rule):
+    """The forms of a node for a rule."""
+    return [form for goal in [pattern] + rule.begins() + rule.ends() for form in goal.forms()]
+
+
+def paper_faces(pattern, rule, states):
+    """The faces of a node with this list of states."""
+    forms = paper_forms(pattern, rule)
+    marks = [pattern] + rule.begins() + rule.ends()
+    found = set()
+    for state in {step(forms, state, sign) for state in states for sign in signs_for(forms)}:
+        told, at = [], 0
+        for goal in marks:
+            told.append(goal.holds(truths(forms, state)[at:at + len(goal.forms())]))
+            at += len(goal.forms())
+        if told[0]:
+            many = 1 + len(rule.begins())
+            found.add((any(told[1:many]), any(told[many:])))
+    return found
+
+
+def right_paper_holds(grammar, rule, paper):
+    """Whether a right paper of the right kinds holds, by the words of point 39."""
+    _, covers, places = paper
+    nodes = range(len(grammar))
+    for k in nodes:
+        forms = paper_forms(grammar[k], rule)
+        if begin(forms) not in covers[k]:
+            return False
+        for state in covers[k]:
+            if any(step(forms, state, sign) not in covers[k] for sign in signs_for(forms)):
+                return False
+    if any((k, 1) not in places for k in grammar.firsts()):
+        return False
+    for k, count in places:
+        for after in grammar.nexts(k):
+            if (after, 1 if rule.most is None else count + 1) not in places:
+                return False
+        if grammar.nexts(k) and rule.most is not None and count >= rule.most:
+            return False
+    faces = [paper_faces(grammar[k], rule, covers[k]) for k in nodes]
+    for k in nodes:
+        if any(begins for after in grammar.nexts(k) for begins, _ in faces[after]):
+            return False
+        if grammar.nexts(k) and any(ends for _, ends in faces[k]):
+            return False
+    begun = all(begins for k in grammar.firsts() for begins, _ in faces[k])
+    late = any(not ends for k, count in places if k in grammar.lasts() and count != rule.most for _, ends in faces[k])
+    return begun if late or not rule.alone else True

@@ -2,6 +2,8 @@
 
 import unittest
 
+from gluedlines.crews import Crew
+from gluedlines.crewverdicts import breaking_number, crew_wrong
 from gluedlines.errors import NoForm, NoText
 from gluedlines.faces import faces
 from gluedlines.gluers import Gluer, glue
@@ -84,6 +86,14 @@ class ExamplesTest(unittest.TestCase):
     def test_readings(self):
         grammar = Grammar([(Form("T", Form.DIGITS), [1]), (Form("-", Form.ANY), [1])], [0], [0, 1])
         self.assertEqual([ahead_needed(grammar), two_readings(grammar)], [1, None])
+
+    def test_crews(self):
+        grammar = Grammar([(Form("T", Form.DIGITS), [1]), (Form("-", Form.ANY), [1])], [0], [0, 1])
+        title = Form("T", Form.DIGITS)
+        told = [crew_wrong(Crew(grammar, grammar), Rule([title], [], tags=0)),
+                crew_wrong(Crew(grammar, grammar, at_once=True), Rule([title], [])),
+                breaking_number(grammar, Rule([title], [])), breaking_number(grammar, Rule([title], [], tags=2))]
+        self.assertEqual(told, [None, None, 2, 3])
 
 
 if __name__ == "__main__":
