@@ -53,9 +53,9 @@ def _fitting(goals, marks, only_first):
             if after not in seen:
                 seen[after] = True
                 # Patterns know no "not": one that fails even if all its living forms were true fails for ever.
-                if all(_held(goals, _picked(living, after))):
+                if all(held(goals, _picked(living, after))):
                     queue.append((after, line + sign))
-                    told = _held([*goals, *marks], _picked(fitting, after))
+                    told = held([*goals, *marks], _picked(fitting, after))
                     if all(told[:len(goals)]):
                         found.append((told[len(goals):], line + sign))
         at += 1
@@ -66,7 +66,7 @@ def _picked(tables, numbers):
     return [table[n] for table, n in zip(tables, numbers)]
 
 
-def _held(patterns, told):
+def held(patterns, told):
     """For each pattern whether it holds, if told tells it of the forms of all of them."""
     held = []
     at = 0

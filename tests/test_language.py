@@ -39,6 +39,11 @@ INTERFACE = {
     "losses": {"loss_wrong": None},
     "middles": {"middle_most": None, "late_ends": None},
     "papers": {"right_paper": None, "wrong_paper": None},
+    "checker": {"lets": None},
+    "twins": {"parted": None, "parted_on": None},
+    "changes": {"changed": None, "least_changes": None},
+    "tables": {"table": None},
+    "desk": {"Desk": ["__init__", "say", "tried"], "Trial": ["__init__", "__enter__", "__exit__"]},
 }
 
 BUILTINS = """len range enumerate zip min max sum abs sorted reversed int str bool list tuple dict set isinstance ord repr
