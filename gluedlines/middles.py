@@ -1,7 +1,6 @@
 """Readers that begin in the middle, and records that are given out late."""
 
 from gluedlines.gluers import BEGUN, taken
-from gluedlines.outputs import followers
 from gluedlines.verdicts import late_ways, right_faces
 
 

@@ -117,6 +117,13 @@ class FilesTest(unittest.TestCase):
                         self.assertIsNone(alias.asname, name)
                         self.assertIn(alias.name, known[node.module.split(".")[1] + ".py"], (name, alias.name))
 
+    def test_imports_are_used(self):
+        for name, tree in trees():
+            used = {node.id for node in ast.walk(tree) if isinstance(node, ast.Name)}
+            for node in tree.body:
+                if isinstance(node, ast.ImportFrom):
+                    self.assertLessEqual({alias.name for alias in node.names}, used, name)
+
     def test_imports_make_no_ring(self):
         behind = {name: [node.module.split(".")[1] + ".py" for node in tree.body if isinstance(node, ast.ImportFrom)]
                   for name, tree in trees()}
